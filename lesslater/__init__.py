@@ -1,0 +1,1 @@
+"""Workers that take tasks from a list, decided for all durations within bounds."""

@@ -1,0 +1,38 @@
+"""Fractions: pairs (top, bottom) of integers in lowest terms, the bottom at least 1."""
+
+from lesslater.errors import BadFraction
+
+
+def is_integer(value):
+    """Return whether value is an integer."""
+    # To Python a bool is an integer, too; to this package it is none.
+    return isinstance(value, int) and not isinstance(value, bool)
+
+
+def common_divisor(one, other):
+    """Return the greatest common divisor of two integers that are not both 0."""
+    while other != 0:
+        one, other = other, one % other
+    return abs(one)
+
+
+def is_fraction(value):
+    """Return whether value is a fraction."""
+    if not isinstance(value, tuple) or len(value) != 2:
+        return False
+    top, bottom = value
+    if not is_integer(top) or not is_integer(bottom):
+        return False
+    return bottom >= 1 and common_divisor(top, bottom) == 1
+
+
+def fraction(top, bottom=1):
+    """Return the fraction top / bottom."""
+    if not is_integer(top):
+        raise BadFraction(0)
+    if not is_integer(bottom) or bottom == 0:
+        raise BadFraction(1)
+    divisor = common_divisor(top, bottom)
+    if bottom < 0:
+        divisor = -divisor
+    return (top // divisor, bottom // divisor)
