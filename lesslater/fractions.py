@@ -3,7 +3,7 @@
 from lesslater.errors import BadFraction
 
 
-def is_integer(value):
+def is_whole_number(value):
     """Return whether value is an integer."""
     # To Python a bool is an integer, too; to this package it is none.
     return isinstance(value, int) and not isinstance(value, bool)
@@ -21,16 +21,16 @@ def is_fraction(value):
     if not isinstance(value, tuple) or len(value) != 2:
         return False
     top, bottom = value
-    if not is_integer(top) or not is_integer(bottom):
+    if not is_whole_number(top) or not is_whole_number(bottom):
         return False
     return bottom >= 1 and common_divisor(top, bottom) == 1
 
 
 def fraction(top, bottom=1):
     """Return the fraction top / bottom."""
-    if not is_integer(top):
+    if not is_whole_number(top):
         raise BadFraction(0)
-    if not is_integer(bottom) or bottom == 0:
+    if not is_whole_number(bottom) or bottom == 0:
         raise BadFraction(1)
     divisor = common_divisor(top, bottom)
     if bottom < 0:
