@@ -36,3 +36,22 @@ def fraction(top, bottom=1):
     if bottom < 0:
         divisor = -divisor
     return (top // divisor, bottom // divisor)
+
+
+def is_below(one, other):
+    """Return whether a fraction is less than another one."""
+    return one[0] * other[1] < other[0] * one[1]
+
+
+def added(one, other):
+    """Return the sum of two fractions."""
+    return fraction(one[0] * other[1] + other[0] * one[1], one[1] * other[1])
+
+
+def least_of(several):
+    """Return the least fraction of a list that is not empty."""
+    least = several[0]
+    for other in several:
+        if is_below(other, least):
+            least = other
+    return least

@@ -1,8 +1,20 @@
 """Values that several tests hand in."""
 
+import itertools
+import random
+
 from lesslater import errors
+from lesslater.fractions import fraction
+from lesslater.plans import Plan
 
 FORTY = 10 ** 40 - 1
+
+# The document's own values.
+T = (
+    ((), (1, 1), (3, 1)), ((), (2, 1), (2, 1)), ((0,), (2, 1), (2, 1)), ((0,), (2, 1), (2, 1)), ((), (5, 1), (5, 1)),
+)
+P = Plan(T, (0, 1, 2, 3, 4), 2)
+Q = P.with_order((0, 1, 4, 2, 3))
 
 
 def nested(levels):
@@ -21,4 +33,77 @@ def no_integers():
         [], [1], [1, 2], [[1], {}],
         {}, {"top": 1}, {1: 2}, {(1, 2): [3]},
         errors.PlanError(), errors.BadFraction(1), [errors.NoTask(0)],
+        P, [P], (P, Q), {0: P},
     ]
+
+
+def any_values():
+    """Values of every kind that the document calls "any value"."""
+    return no_integers() + [0, 1, -1, 2, 5, 6, FORTY, -FORTY]
+
+
+def replaced(value, at, item):
+    """Return a tuple with another item at an index."""
+    return value[:at] + (item,) + value[at + 1:]
+
+
+def plan_of(bounds, pairs=(), order=None, workers=2):
+    """Return a plan of bounds (low, high), of integers or fractions, and of pairs (before, behind)."""
+    def as_fraction(number):
+        return number if isinstance(number, tuple) else (number, 1)
+
+    tasks = tuple(
+        (tuple(sorted(before for before, behind in pairs if behind == number)), as_fraction(low), as_fraction(high))
+        for number, (low, high) in enumerate(bounds)
+    )
+    return Plan(tasks, tuple(range(len(bounds))) if order is None else order, workers)
+
+
+def some_plans(seed, count, most=5):
+    """Return plans of all shapes, always the same for a seed."""
+    chance = random.Random(seed)
+    plans = []
+    for _ in range(count):
+        many = chance.randint(1, most)
+        places = chance.sample(range(many), many)
+        density = chance.choice((0, 0.2, 0.5))
+        pairs = [
+            (before, behind) for before in range(many) for behind in range(many)
+            if places[before] < places[behind] and chance.random() < density
+        ]
+        bounds = []
+        for _ in range(many):
+            bottom = chance.choice((1, 1, 2, 3))
+            low = chance.randint(1, 6)
+            high = low + chance.choice((0, 0, 1, 2, 4))
+            bounds.append((fraction(low, bottom), fraction(high, bottom)))
+        plans.append(plan_of(bounds, pairs, tuple(chance.sample(range(many), many)), chance.randint(1, 3)))
+    return plans
+
+
+def between(low, high, part, parts):
+    """Return the fraction that stands so many parts on the way from low to high."""
+    top = low[0] * high[1] * (parts - part) + high[0] * low[1] * part
+    return fraction(top, low[1] * high[1] * parts)
+
+
+def grid(plan, parts):
+    """Return all durations of a plan in which each is some parts on the way from its low to its high."""
+    choices = [
+        list(dict.fromkeys(between(low, high, part, parts) for part in range(parts + 1)))
+        for _, low, high in plan.tasks
+    ]
+    return list(itertools.product(*choices))
+
+
+def some_durations(plan, seed, count):
+    """Return durations of a plan, always the same for a seed; many of them have sums in common."""
+    chance = random.Random(seed)
+    found = []
+    for _ in range(count):
+        row = []
+        for _, low, high in plan.tasks:
+            parts = chance.choice((1, 2, 4, 7))
+            row.append(between(low, high, chance.randint(0, parts), parts))
+        found.append(tuple(row))
+    return found

@@ -1,6 +1,7 @@
 """The form of the package's files: where the interface's names stand, and the plainest rules of the language."""
 
 import ast
+import builtins
 import re
 import unittest
 from pathlib import Path
@@ -12,7 +13,22 @@ DEFINED = {
         "NoBack", "NoGroup", "NotBeside", "NothingToUndo", "TooMany", "NoPair", "NoTask",
     ),
     "fractions.py": ("is_fraction", "fraction"),
+    "plans.py": ("Plan",),
+    "runs.py": ("durations_error", "times", "whole_end", "course_of", "moments"),
+    "courses.py": ("is_beginning", "running", "next_groups", "chains", "conditions", "point", "courses"),
 }
+METHODS = {
+    "Plan": (
+        "tasks", "order", "workers", "with_task", "with_order", "with_workers", "pairs", "with_pair", "without_pair",
+        "apart", "__getitem__", "__len__", "__eq__", "__str__",
+    ),
+}
+ALLOWED_BUILTINS = set(
+    "len range enumerate zip min max sum abs sorted reversed int str bool bytes list tuple dict set frozenset "
+    "isinstance ord repr any all divmod Exception ValueError TypeError KeyError IndexError LookupError "
+    "ZeroDivisionError ArithmeticError OverflowError RuntimeError NotImplementedError StopIteration NotImplemented "
+    "property staticmethod classmethod super".split()
+)
 BARRED = re.compile(
     r"\b(type|typing|typing_extensions|enum|Enum|IntEnum|StrEnum|Flag|IntFlag|Generic|Protocol|ABC|ABCMeta"
     r"|namedtuple|NamedTuple|TypedDict|TYPE_CHECKING|abstractmethod)\b|dataclass|overload|contextmanager"
@@ -23,9 +39,25 @@ def files():
     return sorted(PACKAGE.glob("*.py"))
 
 
+def nodes(path, *kinds):
+    """Return the nodes of some kinds in a file."""
+    return [node for node in ast.walk(ast.parse(path.read_text())) if isinstance(node, kinds)]
+
+
+def bound_names(path):
+    """Return the names of functions, classes, parameters and variables of a file."""
+    found = {node.name for node in nodes(path, ast.FunctionDef, ast.ClassDef)}
+    found |= {node.arg for node in nodes(path, ast.arg)}
+    return found | {node.id for node in nodes(path, ast.Name) if isinstance(node.ctx, ast.Store)}
+
+
+def is_call_of(node, names):
+    return isinstance(node, ast.Call) and isinstance(node.func, ast.Name) and node.func.id in names
+
+
 def imported(path):
     """Return the import statements of a file."""
-    return [node for node in ast.walk(ast.parse(path.read_text())) if isinstance(node, (ast.Import, ast.ImportFrom))]
+    return nodes(path, ast.Import, ast.ImportFrom)
 
 
 class FormTest(unittest.TestCase):
@@ -41,6 +73,53 @@ class FormTest(unittest.TestCase):
             for name in names:
                 with self.subTest(file, name=name):
                     self.assertEqual(found.count(name), 1)
+
+    def test_methods_stand_in_the_body_of_their_class(self):
+        for path in files():
+            for node in nodes(path, ast.ClassDef):
+                found = [part.name for part in node.body if isinstance(part, ast.FunctionDef)]
+                self.assertEqual(len(found), len(set(found)))
+                self.assertLessEqual(set(METHODS.get(node.name, ())), set(found), node.name)
+
+    def test_no_name_is_a_method_here_and_an_attribute_there(self):
+        methods, attributes = set(), set()
+        for path in files():
+            for node in nodes(path, ast.ClassDef):
+                methods |= {part.name for part in node.body if isinstance(part, ast.FunctionDef)}
+            attributes |= {node.attr for node in nodes(path, ast.Attribute) if isinstance(node.ctx, ast.Store)}
+        self.assertEqual(methods & attributes, set())
+
+    def test_names(self):
+        for path in files():
+            with self.subTest(path.name):
+                names = bound_names(path)
+                self.assertEqual([name for name in names if name in dir(builtins)], [])
+                brought = [alias.asname or alias.name for node in imported(path) for alias in node.names]
+                self.assertEqual(sorted(names & set(brought)), [])
+                for name in names:
+                    self.assertRegex(name, r"\A([a-zA-Z][a-zA-Z0-9_]*|__[a-z]+__)\Z")
+
+    def test_builtins(self):
+        for path in files():
+            used = {node.id for node in nodes(path, ast.Name)}
+            with self.subTest(path.name):
+                self.assertLessEqual(used & set(dir(builtins)), ALLOWED_BUILTINS)
+
+    def test_what_is_iterated_at_once(self):
+        for path in files():
+            for node in nodes(path, ast.Assign, ast.Return):
+                with self.subTest(path.name, line=node.lineno):
+                    self.assertFalse(is_call_of(node.value, ("range", "zip", "enumerate", "reversed", "moments")))
+            for node in nodes(path, ast.GeneratorExp):
+                self.fail(f"a list is taken instead: {path.name}, line {node.lineno}")
+
+    def test_statements_that_are_not_used(self):
+        barred = (ast.Global, ast.AsyncFunctionDef, ast.AsyncFor, ast.AsyncWith, ast.Await, ast.Div)
+        for path in files():
+            with self.subTest(path.name):
+                self.assertEqual([ast.dump(node) for node in nodes(path, *barred)], [])
+                floats = [node for node in nodes(path, ast.Constant) if isinstance(node.value, (float, complex))]
+                self.assertEqual(floats, [])
 
     def test_characters_and_sizes(self):
         for path in files():

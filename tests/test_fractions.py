@@ -5,7 +5,7 @@ import unittest
 from fractions import Fraction
 
 from lesslater.errors import BadFraction, PlanError
-from lesslater.fractions import fraction, is_fraction
+from lesslater.fractions import added, fraction, is_below, is_fraction, least_of
 from tests.samples import FORTY, no_integers
 
 
@@ -165,6 +165,25 @@ class IsFractionTest(unittest.TestCase):
         value = [[3, 2], {"a": [1]}]
         is_fraction(value)
         self.assertEqual(value, [[3, 2], {"a": [1]}])
+
+
+class ArithmeticTest(unittest.TestCase):
+    PAIRS = [fraction(top, bottom) for top in range(-6, 7) for bottom in (1, 2, 3, 7)] + [
+        (FORTY, FORTY - 1), (FORTY - 1, FORTY), (-FORTY, 2), (1, FORTY),
+    ]
+
+    def test_pairs_of_fractions(self):
+        for one in self.PAIRS:
+            for other in self.PAIRS:
+                exact = Fraction(*one) + Fraction(*other)
+                self.assertEqual(added(one, other), (exact.numerator, exact.denominator))
+                self.assertIs(is_below(one, other), Fraction(*one) < Fraction(*other))
+
+    def test_the_least_one(self):
+        self.assertEqual(least_of([(3, 2)]), (3, 2))
+        for shift in range(len(self.PAIRS)):
+            several = self.PAIRS[shift:] + self.PAIRS[:shift // 2]
+            self.assertEqual(Fraction(*least_of(several)), min(Fraction(*pair) for pair in several))
 
 
 if __name__ == "__main__":
