@@ -1,23 +1,12 @@
 """Courses: in which groups tasks can end, and for which durations they do."""
 
 from lesslater.bounds import MAX_COURSES
-from lesslater.errors import TooMany
+from lesslater.branches import (
+    bound_conditions, first_branch, first_chains, first_state, group_conditions, groups_of, next_chains, next_state,
+    whole_branches,
+)
 from lesslater.plans import is_ascending
-from lesslater.runs import taken
 from lesslater.solver import solution
-
-
-def first_state(plan):
-    """Return the pair of the tasks that are running and those that have ended, at moment 0."""
-    return (taken(plan, (), ()), ())
-
-
-def next_state(plan, state, group):
-    """Return the state behind another one in which a group ends next."""
-    busy, done = state
-    left = tuple([number for number in busy if number not in group])
-    done = done + group
-    return (left + taken(plan, left, done), done)
 
 
 def state_behind(plan, beginning):
@@ -49,52 +38,18 @@ def running(plan, beginning):
 
 def next_groups(plan, beginning):
     """Return the ascending tuple of the groups that may come next."""
-    groups = [()]
-    for number in running(plan, beginning):
-        groups = groups + [(*group, number) for group in groups]
-    return tuple(sorted([group for group in groups if len(group) > 0]))
+    return groups_of(running(plan, beginning))
 
 
 def chains(plan, beginning):
     """Return for each task its chain, () if it was not begun."""
-    found = [()] * len(plan)
+    places = tuple(range(len(plan)))
     state = first_state(plan)
-    for number in state[0]:
-        found[number] = (number,)
+    found = first_chains(state[0], places)
     for group in beginning:
         state = next_state(plan, state, group)
-        for number in state[0]:
-            if len(found[number]) == 0:
-                found[number] = found[group[0]] + (number,)
-    return tuple(found)
-
-
-def bound_conditions(plan):
-    """Return the list of the conditions that durations are within their bounds."""
-    found = []
-    for number in range(len(plan)):
-        low, high = plan[number][1:]
-        factors = [0] * len(plan)
-        factors[number] = 1
-        found.append((tuple(factors), (-low[0], low[1]), ">="))
-        factors[number] = -1
-        found.append((tuple(factors), high, ">="))
+        found = next_chains(found, state[0], group, places)
     return found
-
-
-def comparison(one, other, many, kind):
-    """Return the condition that the sum of a chain less that of another one is of a kind to 0."""
-    factors = tuple([one.count(number) - other.count(number) for number in range(many)])
-    return (factors, (0, 1), kind)
-
-
-def group_conditions(busy, group, found_chains):
-    """Return the list of the conditions that of the busy tasks just a group ends next."""
-    many = len(found_chains)
-    least = found_chains[group[0]]
-    together = [comparison(found_chains[number], least, many, "=") for number in group[1:]]
-    others = sorted([number for number in busy if number not in group])
-    return together + [comparison(found_chains[number], least, many, ">") for number in others]
 
 
 def conditions(plan, beginning):
@@ -103,7 +58,7 @@ def conditions(plan, beginning):
     found_chains = chains(plan, beginning)
     state = first_state(plan)
     for group in beginning:
-        found.extend(group_conditions(state[0], group, found_chains))
+        found.extend(group_conditions(state[0], group, found_chains, len(plan)))
         state = next_state(plan, state, group)
     return tuple(found)
 
@@ -113,19 +68,11 @@ def point(plan, beginning):
     return solution(conditions(plan, beginning), len(plan))
 
 
+def course_branches(plan):
+    """Return the list of the whole branches of a plan, one for each course."""
+    return whole_branches(first_branch(plan), MAX_COURSES)
+
+
 def courses(plan):
     """Return the ascending tuple of all possible whole beginnings."""
-    found = []
-    waiting = [()]
-    while waiting:
-        beginning = waiting.pop()
-        if point(plan, beginning) is None:
-            continue
-        groups = next_groups(plan, beginning)
-        if len(groups) == 0:
-            found.append(beginning)
-        if len(found) > MAX_COURSES:
-            raise TooMany(MAX_COURSES)
-        # The last one is taken next: so the courses are found in ascending order.
-        waiting.extend([(*beginning, group) for group in groups[::-1]])
-    return tuple(found)
+    return tuple([branch.gone for branch in course_branches(plan)])

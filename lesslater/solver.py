@@ -1,4 +1,4 @@
-"""Durations that meet conditions, found exactly.
+"""Durations that meet conditions, found exactly, or weights that tell why there are none.
 
 What a condition's sum comes to is called its margin. Margins depend on the
 durations and on one another: a table keeps as many of them (at first the
@@ -12,29 +12,64 @@ a size at the end.
 from lesslater.fractions import common_divisor, fraction, least_of
 
 
-def common_bottom(conditions):
-    """Return a bottom that the constants of all conditions can be written with."""
-    bottom = 1
-    for factors, constant, kind in conditions:
-        bottom = bottom // common_divisor(bottom, constant[1]) * constant[1]
-    return bottom
+def without_divisor(numbers):
+    """Return the tuple of some integers, not all 0, divided by their greatest common divisor."""
+    divisor = 0
+    for number in numbers:
+        divisor = common_divisor(number, divisor) if number != 0 else divisor
+    return tuple([number // divisor for number in numbers])
 
 
 class Table:
     """The margins of conditions on so many durations; durations come first, then the conditions, by number."""
 
-    def __init__(self, conditions, many):
+    def __init__(self, many):
         # All entries are integers: constants are told by the scale, rows by the divisor.
         self.many = many
-        self.scale = common_bottom(conditions)
+        self.scale = 1
         self.divisor = 1
         self.columns = list(range(many))
         self.kinds = ["free"] * many
         self.rows = {}
-        for factors, constant, kind in conditions:
-            share = -1 if kind == ">" else 0
-            self.rows[len(self.kinds)] = [*factors, constant[0] * (self.scale // constant[1]), share]
-            self.kinds.append(kind)
+
+    def twin(self):
+        """Return an equal table that goes on by itself."""
+        # No row is ever changed, only replaced: so both may hold the same ones.
+        other = Table(self.many)
+        other.scale = self.scale
+        other.divisor = self.divisor
+        other.columns = list(self.columns)
+        other.kinds = list(self.kinds)
+        other.rows = dict(self.rows)
+        return other
+
+    def widen(self, bottom):
+        """Take a scale with which a fraction of this bottom is told by an integer."""
+        factor = bottom // common_divisor(self.scale, bottom)
+        if factor > 1:
+            self.scale = self.scale * factor
+            self.rows = {
+                number: [*row[:-2], row[-2] * factor, row[-1]] for number, row in self.rows.items()
+            }
+
+    def row_of(self, factors, constant, share):
+        """Return the row of the sum of the durations, each times its factor, a constant and a share."""
+        row = [0] * self.many + [constant * self.divisor, share * self.divisor]
+        for number, factor in enumerate(factors):
+            if factor != 0 and number in self.rows:
+                row = [entry + factor * part for entry, part in zip(row, self.rows[number])]
+            elif factor != 0:
+                row[self.columns.index(number)] += factor * self.divisor
+        return row
+
+    def enter(self, condition):
+        """Add a condition behind all others."""
+        factors, constant, kind = condition
+        self.widen(constant[1])
+        share = -1 if kind == ">" else 0
+        row = self.row_of(factors, constant[0] * (self.scale // constant[1]), share)
+        self.rows[len(self.kinds)] = row
+        self.kinds.append(kind)
 
     def need(self, number):
         """Return 1 if a row's margin must grow to be right, -1 if it must shrink, 0 if it is right."""
@@ -56,9 +91,8 @@ class Table:
                 return number
         return None
 
-    def first_help(self, number):
-        """Return the place of the first column that can move a row to where it must be, None if none can."""
-        need = self.need(number)
+    def first_help(self, number, need):
+        """Return the place of the first column that can move a row as it needs, None if none can."""
         helping = []
         for place, column in enumerate(self.columns):
             factor = self.rows[number][place] * need
@@ -97,12 +131,51 @@ class Table:
         """Return whether all rows can be made right, and make them so."""
         number = self.first_wrong()
         while number is not None:
-            place = self.first_help(number)
+            place = self.first_help(number, self.need(number))
             if place is None:
                 return False
             self.change(number, place)
             number = self.first_wrong()
         return True
+
+    def clash(self):
+        """Return for each condition its weight in a sum that no durations can give, if settle returned False."""
+        # The first wrong row is one that no column helps: what it says of the columns' margins is the sum.
+        number = self.first_wrong()
+        need = self.need(number)
+        weights = [0] * len(self.kinds)
+        weights[number] = need * self.divisor
+        for place, column in enumerate(self.columns):
+            weights[column] = -need * self.rows[number][place]
+        return without_divisor(weights[self.many:])
+
+    def first_stop(self, place, sign):
+        """Return the row that lets the column at a place move the least, None if none stops it."""
+        stop, best = None, None
+        for number in sorted(self.rows):
+            row = self.rows[number]
+            kind = self.kinds[number]
+            if kind != "free" and (row[place] * sign < 0 or (row[place] != 0 and kind == "=")):
+                size = abs(row[place])
+                if stop is None or (row[-2] * best[2], row[-1] * best[2]) < (best[0] * size, best[1] * size):
+                    stop, best = number, (row[-2], row[-1], size)
+        return stop
+
+    def greatest(self, factors):
+        """Return the least number that a settled table's sum of durations, each times its factor, is not above.
+
+        Beside it stands whether the sum comes up to it; the table is left where it does, or comes near.
+        """
+        goal = len(self.kinds)
+        self.kinds.append("free")
+        self.rows[goal] = self.row_of(factors, 0, 0)
+        place = self.first_help(goal, 1)
+        while place is not None:
+            sign = 1 if self.rows[goal][place] > 0 else -1
+            self.change(self.first_stop(place, sign), place)
+            place = self.first_help(goal, 1)
+        constant, share = self.rows[goal][-2:]
+        return (fraction(constant, self.divisor * self.scale), share == 0)
 
     def least_step(self):
         """Return a size of the least step with which each right row stays right."""
@@ -125,9 +198,26 @@ class Table:
         return tuple(found)
 
 
+def table_of(conditions, many):
+    """Return the table of conditions on so many durations."""
+    table = Table(many)
+    for condition in conditions:
+        table.enter(condition)
+    return table
+
+
 def solution(conditions, many):
     """Return so many durations that meet all conditions, None if there are none."""
-    table = Table(conditions, many)
+    table = table_of(conditions, many)
     if not table.settle():
         return None
     return table.found_durations()
+
+
+def solution_with(table, condition):
+    """Return durations of a settled table that meet one more condition, None if none do."""
+    other = table.twin()
+    other.enter(condition)
+    if not other.settle():
+        return None
+    return other.found_durations()

@@ -107,3 +107,48 @@ def some_durations(plan, seed, count):
             row.append(between(low, high, chance.randint(0, parts), parts))
         found.append(tuple(row))
     return found
+
+
+# As many courses as there may be, and one more; LOOSE_8 has just 8 pairs apart, and too many courses, too.
+SIXTY = plan_of([(4, 4), (3, 6), (2, 4), (1, 4), (1, 1)], workers=3)
+SIXTY_ONE = plan_of([(3, 5), (3, 6), (3, 5), (3, 3), (1, 3)], workers=3)
+LOOSE = plan_of([(1, 9)] * 5, workers=3)
+LOOSE_8 = plan_of([(1, 9)] * 5, [(2, 3), (2, 4)], workers=3)
+# The plan of [10] in words, whose latest end is not met.
+NEAR = plan_of([(1, 3), (2, 2), (5, 5), (5, 5), (6, 6)], [(0, 2), (1, 3), (1, 4)], (0, 1, 3, 4, 2))
+
+
+def renumbered(plan, names):
+    """Return the plan in which each task has another number, told by its number in names."""
+    bounds = [plan.tasks[names.index(number)][1:] for number in range(len(plan))]
+    pairs = [(names[before], names[behind]) for before, behind in plan.pairs()]
+    return plan_of(bounds, pairs, tuple(names[number] for number in plan.order), plan.workers)
+
+
+def stretched(plan, top, bottom=1):
+    """Return the plan with all bounds top / bottom times as long."""
+    tasks = tuple(
+        (before, fraction(low[0] * top, low[1] * bottom), fraction(high[0] * top, high[1] * bottom))
+        for before, low, high in plan.tasks
+    )
+    return Plan(tasks, plan.order, plan.workers)
+
+
+def jumpy_plans(seed, count):
+    """Return plans like P and NEAR, of which many are not steady, always the same for a seed."""
+    chance = random.Random(seed)
+    plans = []
+    for _ in range(count):
+        base = chance.choice((P, NEAR))
+        wide = chance.choice(((0, 0, 1, 2), (0, 1, 2), (1, 2, 3), (0, 2, 4)))
+        lows = [chance.randint(1, 6) for _ in range(5)]
+        plan = plan_of([(low, low + chance.choice(wide)) for low in lows], base.pairs(), base.order)
+        plans.append(renumbered(plan, chance.sample(range(5), 5)))
+    return plans
+
+
+def is_of_tuples(value):
+    """Return whether a value is made of tuples, integers, strings and None alone."""
+    if type(value) is tuple:
+        return all(map(is_of_tuples, value))
+    return value is None or type(value) in (int, str)

@@ -8,12 +8,10 @@ from lesslater.courses import chains, conditions, courses, is_beginning, next_gr
 from lesslater.errors import TooMany
 from lesslater.runs import course_of, durations_error, moments, times
 from tests import reference
-from tests.samples import P, Q, T, grid, no_integers, plan_of, some_durations, some_plans
+from tests.samples import (
+    LOOSE, P, Q, SIXTY, SIXTY_ONE, T, grid, no_integers, plan_of, some_durations, some_plans,
+)
 
-# As many courses as there may be, and one more.
-SIXTY = plan_of([(4, 4), (3, 6), (2, 4), (1, 4), (1, 1)], workers=3)
-SIXTY_ONE = plan_of([(3, 5), (3, 6), (3, 5), (3, 3), (1, 3)], workers=3)
-LOOSE = plan_of([(1, 9)] * 5, workers=3)
 OF_BEGINNINGS = (running, next_groups, chains, conditions, point)
 
 

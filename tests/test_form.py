@@ -16,6 +16,9 @@ DEFINED = {
     "plans.py": ("Plan",),
     "runs.py": ("durations_error", "times", "whole_end", "course_of", "moments"),
     "courses.py": ("is_beginning", "running", "next_groups", "chains", "conditions", "point", "courses"),
+    "lateness.py": ("latest", "earliest", "beyond", "is_by", "paper", "paper_holds"),
+    "steady.py": ("shorter_later", "less_holds", "is_steady", "fewest_pairs"),
+    "pairs.py": ("later", "apart_at", "is_alike"),
 }
 METHODS = {
     "Plan": (
