@@ -4,8 +4,11 @@ import itertools
 import random
 
 from lesslater import errors
+from lesslater.benches import Bench
+from lesslater.desks import Desk
 from lesslater.fractions import fraction
 from lesslater.plans import Plan
+from lesslater.walkers import Walker
 
 FORTY = 10 ** 40 - 1
 
@@ -33,7 +36,7 @@ def no_integers():
         [], [1], [1, 2], [[1], {}],
         {}, {"top": 1}, {1: 2}, {(1, 2): [3]},
         errors.PlanError(), errors.BadFraction(1), [errors.NoTask(0)],
-        P, [P], (P, Q), {0: P},
+        P, [P], (P, Q), {0: P}, Walker(P), [Bench(P, (9, 1))], (Desk(Bench(P, (9, 1))), 0),
     ]
 
 

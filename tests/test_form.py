@@ -19,12 +19,22 @@ DEFINED = {
     "lateness.py": ("latest", "earliest", "beyond", "is_by", "paper", "paper_holds"),
     "steady.py": ("shorter_later", "less_holds", "is_steady", "fewest_pairs"),
     "pairs.py": ("later", "apart_at", "is_alike"),
+    "walkers.py": ("Walker",),
+    "benches.py": ("Bench",),
+    "texts.py": ("plan_text", "read_plan"),
+    "desks.py": ("Desk",),
 }
 METHODS = {
     "Plan": (
         "tasks", "order", "workers", "with_task", "with_order", "with_workers", "pairs", "with_pair", "without_pair",
         "apart", "__getitem__", "__len__", "__eq__", "__str__",
     ),
+    "Walker": ("plan", "beginning", "groups", "__call__", "back", "twin", "__len__", "__eq__"),
+    "Bench": (
+        "plan", "day", "version", "news", "is_steady", "set_task", "set_order", "set_workers", "add_pair", "drop_pair",
+        "set_day", "undo", "tried", "__getitem__", "__setitem__", "__eq__", "__str__",
+    ),
+    "Desk": ("say", "history"),
 }
 ALLOWED_BUILTINS = set(
     "len range enumerate zip min max sum abs sorted reversed int str bool bytes list tuple dict set frozenset "
@@ -78,6 +88,8 @@ class FormTest(unittest.TestCase):
                     self.assertEqual(found.count(name), 1)
 
     def test_methods_stand_in_the_body_of_their_class(self):
+        classes = [node.name for path in files() for node in nodes(path, ast.ClassDef)]
+        self.assertLessEqual(set(METHODS), set(classes))
         for path in files():
             for node in nodes(path, ast.ClassDef):
                 found = [part.name for part in node.body if isinstance(part, ast.FunctionDef)]
