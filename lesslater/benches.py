@@ -3,8 +3,8 @@
 from lesslater.bounds import MAX_EDITS
 from lesslater.errors import BadDay, Full, Late, NothingToUndo
 from lesslater.fractions import is_below, is_fraction
+from lesslater.jumps import first_jump
 from lesslater.lateness import beyond, latest
-from lesslater.steady import shorter_later
 
 
 def end_by_day(plan, day):
@@ -73,7 +73,8 @@ class Bench:
 
     def is_steady(self):
         """Return whether the plan is steady."""
-        return shorter_later(self.held_plan) is None
+        # A bench holds no plan with too many courses: so these need not be counted once more.
+        return first_jump(self.held_plan) is None
 
     def check_room(self):
         """Raise Full if as many edits are in effect as can be."""

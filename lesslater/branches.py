@@ -26,17 +26,17 @@ def groups_of(busy):
     return tuple(sorted([group for group in groups if len(group) > 0]))
 
 
-def first_chains(busy, places):
-    """Return for each task its chain at moment 0, each task told by its place among the durations."""
-    return tuple([(place,) if number in busy else () for number, place in enumerate(places)])
+def first_chains(busy, many):
+    """Return for each of so many tasks its chain at moment 0."""
+    return tuple([(number,) if number in busy else () for number in range(many)])
 
 
-def next_chains(found_chains, busy, group, places):
+def next_chains(found_chains, busy, group):
     """Return the chains with those of the busy tasks that begin where a group ends."""
     grown = list(found_chains)
     for number in busy:
         if len(grown[number]) == 0:
-            grown[number] = found_chains[group[0]] + (places[number],)
+            grown[number] = found_chains[group[0]] + (number,)
     return tuple(grown)
 
 
@@ -55,7 +55,7 @@ def bound_conditions(plan):
 
 def comparison(one, other, many, kind):
     """Return the condition that the sum of a chain less that of another one is of a kind to 0."""
-    factors = tuple([one.count(place) - other.count(place) for place in range(many)])
+    factors = tuple([one.count(number) - other.count(number) for number in range(many)])
     return (factors, (0, 1), kind)
 
 
@@ -70,49 +70,47 @@ def group_conditions(busy, group, found_chains, many):
 class Branch:
     """A beginning of a plan, and a table of the durations with which the plan begins so.
 
-    Each task has a place among the table's durations. These may be more than
-    the plan's, and the table may tell of them more than that the plan begins so.
+    The table may tell more of the durations than that. states has the state
+    behind each group, and ahead of all of them; sums has the tasks' chains.
     """
 
-    def __init__(self, plan, places, table, gone, state, sums):
+    def __init__(self, plan, table, gone, states, sums):
         self.held_plan = plan
-        self.places = places
         self.table = table
         self.gone = gone
-        self.state = state
+        self.states = states
         self.sums = sums
 
     def grown(self, group):
         """Return the branch with another group, whose table is not settled yet."""
-        table = self.table.twin()
-        for condition in group_conditions(self.state[0], group, self.sums, table.many):
-            table.enter(condition)
-        state = next_state(self.held_plan, self.state, group)
-        sums = next_chains(self.sums, state[0], group, self.places)
-        return Branch(self.held_plan, self.places, table, (*self.gone, group), state, sums)
+        state = self.states[-1]
+        table = self.table.with_all(group_conditions(state[0], group, self.sums, self.table.many))
+        behind = next_state(self.held_plan, state, group)
+        sums = next_chains(self.sums, behind[0], group)
+        return Branch(self.held_plan, table, (*self.gone, group), (*self.states, behind), sums)
 
     def all_grown(self):
         """Return the list of the branches with one group more, ascending."""
-        return [self.grown(group) for group in groups_of(self.state[0])]
+        return [self.grown(group) for group in groups_of(self.states[-1][0])]
 
     def is_whole(self):
         """Return whether all tasks have ended."""
-        return len(self.state[0]) == 0
+        return len(self.states[-1][0]) == 0
 
     def last_chain(self):
         """Return the chain of the task that ends last, if the branch is whole."""
         return self.sums[self.gone[-1][0]]
 
 
-def branch_within(plan, places, table):
+def branch_within(plan, table):
     """Return the branch ahead of all groups of a plan, with the durations of a table."""
     state = first_state(plan)
-    return Branch(plan, places, table, (), state, first_chains(state[0], places))
+    return Branch(plan, table, (), (state,), first_chains(state[0], len(plan)))
 
 
 def first_branch(plan):
     """Return the branch ahead of all groups of a plan, with all its durations."""
-    return branch_within(plan, tuple(range(len(plan))), table_of(bound_conditions(plan), len(plan)))
+    return branch_within(plan, table_of(bound_conditions(plan), len(plan)))
 
 
 def whole_branches(first, most=None):

@@ -48,6 +48,12 @@ def added(one, other):
     return fraction(one[0] * other[1] + other[0] * one[1], one[1] * other[1])
 
 
+def middle(one, other):
+    """Return the fraction that stands midway between two."""
+    top, bottom = added(one, other)
+    return fraction(top, 2 * bottom)
+
+
 def least_of(several):
     """Return the least fraction of a list that is not empty."""
     least = several[0]

@@ -1,7 +1,7 @@
 """How late and how early the whole can end, and papers that it ends by a day."""
 
-from lesslater.branches import first_branch
-from lesslater.courses import chains, conditions, course_branches, is_beginning, next_groups
+from lesslater.branches import first_branch, first_state, groups_of, next_state
+from lesslater.courses import chains_along, conditions_along, course_branches, states_along
 from lesslater.fractions import added, fraction, is_below, is_whole_number
 from lesslater.solver import solution_with
 
@@ -71,13 +71,13 @@ def paper(plan, day):
     return tuple(claims)
 
 
-def claimed_conditions(plan, day, beginning):
-    """Return the tuple of the conditions that a claim for a day has weights for."""
-    found = conditions(plan, beginning)
-    if len(next_groups(plan, beginning)) > 0:
+def claimed_conditions(plan, day, beginning, states):
+    """Return the tuple of the conditions that a claim has weights for, with the states along its beginning."""
+    found_chains = chains_along(beginning, states, len(plan))
+    found = conditions_along(plan, beginning, states, found_chains)
+    if len(states[-1][0]) > 0:
         return found
-    last = chains(plan, beginning)[beginning[-1][0]]
-    return (*found, behind_day(last, len(plan), day))
+    return (*found, behind_day(found_chains[beginning[-1][0]], len(plan), day))
 
 
 def are_weights(value, found_conditions):
@@ -96,9 +96,10 @@ def is_clash(weights, found_conditions, many):
     total = (0, 1)
     is_above = False
     for weight, (factors, constant, kind) in zip(weights, found_conditions):
-        sums = [part + weight * factor for part, factor in zip(sums, factors)]
-        total = added(total, fraction(weight * constant[0], constant[1]))
-        is_above = is_above or (weight > 0 and kind == ">")
+        if weight != 0:
+            sums = [part + weight * factor for part, factor in zip(sums, factors)]
+            total = added(total, fraction(weight * constant[0], constant[1]))
+            is_above = is_above or (weight > 0 and kind == ">")
     return sums == [0] * many and (total[0] < 0 or (total[0] == 0 and is_above))
 
 
@@ -107,22 +108,23 @@ def is_claim(plan, day, value):
     if not isinstance(value, tuple) or len(value) != 2:
         return False
     beginning, weights = value
-    if not is_beginning(plan, beginning):
+    states = states_along(plan, beginning)
+    if states is None:
         return False
-    found_conditions = claimed_conditions(plan, day, beginning)
+    found_conditions = claimed_conditions(plan, day, beginning, states)
     return are_weights(weights, found_conditions) and is_clash(weights, found_conditions, len(plan))
 
 
 def all_start_with(plan, beginnings):
     """Return whether each whole beginning of a plan starts with one of the keys of beginnings."""
-    waiting = [()]
+    waiting = [((), first_state(plan))]
     while waiting:
-        beginning = waiting.pop()
+        beginning, state = waiting.pop()
         if beginning not in beginnings:
-            groups = next_groups(plan, beginning)
+            groups = groups_of(state[0])
             if len(groups) == 0:
                 return False
-            waiting.extend([(*beginning, group) for group in groups])
+            waiting.extend([((*beginning, group), next_state(plan, state, group)) for group in groups])
     return True
 
 

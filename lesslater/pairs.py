@@ -1,7 +1,7 @@
 """Two plans with the same durations: whether one can end later, and whether they do all alike."""
 
 from lesslater.branches import branch_within, comparison, whole_branches
-from lesslater.courses import course_branches
+from lesslater.courses import check_courses, course_branches
 from lesslater.errors import NotBeside
 from lesslater.solver import solution_with
 
@@ -19,12 +19,10 @@ def branch_pairs(one, other):
     """
     check_beside(one, other)
     mine = course_branches(one)
-    # The other plan's courses are found here only to see that they are not too many.
-    course_branches(other)
-    places = tuple(range(len(one)))
+    check_courses(other)
     found = []
     for branch in mine:
-        beside = whole_branches(branch_within(other, places, branch.table))
+        beside = whole_branches(branch_within(other, branch.table))
         found.extend([(branch, yours) for yours in beside])
     return found
 

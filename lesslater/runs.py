@@ -24,10 +24,11 @@ def check_durations(plan, value):
 
 def taken(plan, busy, done):
     """Return the tuple of the tasks that begin, in this order, while some are busy and some are done."""
+    tasks = plan.tasks
     ready = []
     for number in plan.order:
         if number not in busy and number not in done:
-            if all([before in done for before in plan[number][0]]):
+            if all([before in done for before in tasks[number][0]]):
                 ready.append(number)
     return tuple(ready[:plan.workers - len(busy)])
 

@@ -20,6 +20,19 @@ def without_divisor(numbers):
     return tuple([number // divisor for number in numbers])
 
 
+def exchanged(other, row, place, divisor):
+    """Return what another row of a table with a divisor is, when a row and the column at a place change places."""
+    size = abs(row[place])
+    factor = other[place] if row[place] > 0 else -other[place]
+    if size == 1 and divisor == 1:
+        entries = [entry - factor * part for entry, part in zip(other, row)]
+    else:
+        # Each such quotient is a minor of the first table: the division leaves nothing over.
+        entries = [(entry * size - factor * part) // divisor for entry, part in zip(other, row)]
+    entries[place] = factor
+    return entries
+
+
 class Table:
     """The margins of conditions on so many durations; durations come first, then the conditions, by number."""
 
@@ -30,7 +43,8 @@ class Table:
         self.divisor = 1
         self.columns = list(range(many))
         self.kinds = ["free"] * many
-        self.rows = {}
+        # A row for each margin, None for one that is a column.
+        self.rows = [None] * many
 
     def twin(self):
         """Return an equal table that goes on by itself."""
@@ -40,7 +54,7 @@ class Table:
         other.divisor = self.divisor
         other.columns = list(self.columns)
         other.kinds = list(self.kinds)
-        other.rows = dict(self.rows)
+        other.rows = list(self.rows)
         return other
 
     def widen(self, bottom):
@@ -48,18 +62,18 @@ class Table:
         factor = bottom // common_divisor(self.scale, bottom)
         if factor > 1:
             self.scale = self.scale * factor
-            self.rows = {
-                number: [*row[:-2], row[-2] * factor, row[-1]] for number, row in self.rows.items()
-            }
+            self.rows = [
+                None if row is None else [*row[:-2], row[-2] * factor, row[-1]] for row in self.rows
+            ]
 
     def row_of(self, factors, constant, share):
         """Return the row of the sum of the durations, each times its factor, a constant and a share."""
         row = [0] * self.many + [constant * self.divisor, share * self.divisor]
         for number, factor in enumerate(factors):
-            if factor != 0 and number in self.rows:
-                row = [entry + factor * part for entry, part in zip(row, self.rows[number])]
-            elif factor != 0:
+            if factor != 0 and self.rows[number] is None:
                 row[self.columns.index(number)] += factor * self.divisor
+            elif factor != 0:
+                row = [entry + factor * part for entry, part in zip(row, self.rows[number])]
         return row
 
     def enter(self, condition):
@@ -68,27 +82,29 @@ class Table:
         self.widen(constant[1])
         share = -1 if kind == ">" else 0
         row = self.row_of(factors, constant[0] * (self.scale // constant[1]), share)
-        self.rows[len(self.kinds)] = row
+        self.rows.append(row)
         self.kinds.append(kind)
 
+    def with_all(self, conditions):
+        """Return an equal table with some more conditions, which goes on by itself."""
+        other = self.twin()
+        for condition in conditions:
+            other.enter(condition)
+        return other
+
     def need(self, number):
-        """Return 1 if a row's margin must grow to be right, -1 if it must shrink, 0 if it is right."""
-        kind = self.kinds[number]
-        if kind == "free":
-            return 0
+        """Return 1 if a wrong row's margin must grow to be right, -1 if it must shrink."""
         worth = (self.rows[number][-2], self.rows[number][-1])
-        if worth < (0, 0):
-            return 1
-        if worth > (0, 0) and kind == "=":
-            return -1
-        return 0
+        return 1 if worth < (0, 0) else -1
 
     def first_wrong(self):
         """Return the first row that is not right, None if all are."""
         # The first one is taken, of rows and of columns: so no table comes twice (Bland's rule).
-        for number in sorted(self.rows):
-            if self.need(number) != 0:
-                return number
+        for number, (row, kind) in enumerate(zip(self.rows, self.kinds)):
+            if row is not None and kind != "free":
+                constant, share = row[-2], row[-1]
+                if constant < 0 or (constant == 0 and share < 0) or (kind == "=" and (constant > 0 or share > 0)):
+                    return number
         return None
 
     def first_help(self, number, need):
@@ -107,25 +123,20 @@ class Table:
     def change(self, number, place):
         """Make a row a column, and the column at a place a row."""
         row = self.rows[number]
-        pivot = row[place]
-        sign = 1 if pivot > 0 else -1
-        changed = {}
-        for other in self.rows:
-            if other != number:
-                factor = self.rows[other][place]
-                # Each such quotient is a minor of the first table: the division leaves nothing over.
-                entries = [
-                    sign * (entry * pivot - factor * part) // self.divisor
-                    for entry, part in zip(self.rows[other], row)
-                ]
-                entries[place] = sign * factor
-                changed[other] = entries
+        sign = 1 if row[place] > 0 else -1
+        # If the divisor stays, then so do the rows that do not tell of the column.
+        stays = abs(row[place]) == self.divisor
+        changed = [
+            other if other is None or (stays and other[place] == 0) else exchanged(other, row, place, self.divisor)
+            for other in self.rows
+        ]
         entries = [-sign * part for part in row]
         entries[place] = sign * self.divisor
         changed[self.columns[place]] = entries
+        changed[number] = None
         self.columns[place] = number
         self.rows = changed
-        self.divisor = abs(pivot)
+        self.divisor = abs(row[place])
 
     def settle(self):
         """Return whether all rows can be made right, and make them so."""
@@ -152,10 +163,10 @@ class Table:
     def first_stop(self, place, sign):
         """Return the row that lets the column at a place move the least, None if none stops it."""
         stop, best = None, None
-        for number in sorted(self.rows):
-            row = self.rows[number]
-            kind = self.kinds[number]
-            if kind != "free" and (row[place] * sign < 0 or (row[place] != 0 and kind == "=")):
+        for number, (row, kind) in enumerate(zip(self.rows, self.kinds)):
+            if row is None or kind == "free":
+                continue
+            if row[place] * sign < 0 or (row[place] != 0 and kind == "="):
                 size = abs(row[place])
                 if stop is None or (row[-2] * best[2], row[-1] * best[2]) < (best[0] * size, best[1] * size):
                     stop, best = number, (row[-2], row[-1], size)
@@ -168,7 +179,7 @@ class Table:
         """
         goal = len(self.kinds)
         self.kinds.append("free")
-        self.rows[goal] = self.row_of(factors, 0, 0)
+        self.rows.append(self.row_of(factors, 0, 0))
         place = self.first_help(goal, 1)
         while place is not None:
             sign = 1 if self.rows[goal][place] > 0 else -1
@@ -180,10 +191,9 @@ class Table:
     def least_step(self):
         """Return a size of the least step with which each right row stays right."""
         sizes = [(1, 1)]
-        for number in self.rows:
-            constant, share = self.rows[number][-2:]
-            if share < 0 and self.kinds[number] != "free":
-                sizes.append(fraction(constant, -share))
+        for row, kind in zip(self.rows, self.kinds):
+            if row is not None and kind != "free" and row[-1] < 0:
+                sizes.append(fraction(row[-2], -row[-1]))
         return least_of(sizes)
 
     def found_durations(self):
@@ -192,7 +202,7 @@ class Table:
         found = []
         for number in range(self.many):
             constant, share = 0, 0
-            if number in self.rows:
+            if self.rows[number] is not None:
                 constant, share = self.rows[number][-2:]
             found.append(fraction(constant * bottom + share * top, bottom * self.divisor * self.scale))
         return tuple(found)
@@ -200,10 +210,7 @@ class Table:
 
 def table_of(conditions, many):
     """Return the table of conditions on so many durations."""
-    table = Table(many)
-    for condition in conditions:
-        table.enter(condition)
-    return table
+    return Table(many).with_all(conditions)
 
 
 def solution(conditions, many):
@@ -216,8 +223,7 @@ def solution(conditions, many):
 
 def solution_with(table, condition):
     """Return durations of a settled table that meet one more condition, None if none do."""
-    other = table.twin()
-    other.enter(condition)
+    other = table.with_all([condition])
     if not other.settle():
         return None
     return other.found_durations()

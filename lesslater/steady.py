@@ -1,104 +1,17 @@
-"""Whether anything shorter makes the whole end later, and which pairs keep that from happening.
-
-Within a course the end of the whole is the sum of a chain, which never grows
-where a duration shrinks. So, if less makes the whole later, then the end jumps
-somewhere on the way from a duration to the lesser one: at durations with which
-tasks end together of which some have the task in their chains and some do not.
-Just beside these durations the run begins alike, up to this group, whose two
-parts end one behind the other. It is enough to look there.
-"""
+"""Whether anything shorter makes the whole end later, and which pairs keep that from happening."""
 
 from lesslater.bounds import MAX_APART, MAX_PAIRS
-from lesslater.branches import bound_conditions, branch_within, comparison, first_branch, whole_branches
-from lesslater.courses import conditions, course_branches
+from lesslater.courses import check_courses
 from lesslater.errors import BadMost, TooMany
-from lesslater.fractions import is_below, is_fraction, is_whole_number
+from lesslater.fractions import is_below, is_fraction, is_whole_number, middle
+from lesslater.jumps import first_jump
 from lesslater.plans import is_number
 from lesslater.runs import durations_error, whole_end
-from lesslater.solver import solution_with, table_of
 
 
 def replaced(durations, number, other):
     """Return durations with another one in the place of one."""
     return durations[:number] + (other,) + durations[number + 1:]
-
-
-def above(one, other, many, sign):
-    """Return the condition on so many durations that a chain's sum is above another one's, below it if sign is -1."""
-    if sign == 1:
-        return comparison(one, other, many, ">")
-    return comparison(other, one, many, ">")
-
-
-def parted(branch, number):
-    """Return how a branch begins up to a group of which just some chains have a task, and both parts of the group.
-
-    The part with the task in its chains stands first; None if there is no such group.
-    """
-    for at, group in enumerate(branch.gone):
-        inside = tuple([member for member in group if number in branch.sums[member]])
-        outside = tuple([member for member in group if member not in inside])
-        if len(inside) > 0 and len(outside) > 0:
-            return (branch.gone[:at], inside, outside)
-    return None
-
-
-def table_beside(plan, course, number, sign):
-    """Return the table of a course's durations, and behind them of another one of a task, more or less by sign."""
-    many = len(plan)
-    found = [((*factors, 0), constant, kind) for factors, constant, kind in conditions(plan, course)]
-    for factors, constant, kind in bound_conditions(plan)[2 * number:2 * number + 2]:
-        found.append(((0,) * many + (factors[number],), constant, kind))
-    found.append(above((many,), (number,), many + 1, sign))
-    return table_of(found, many + 1)
-
-
-def branches_beside(plan, branch, number, sign):
-    """Return the list of the whole branches just beside one, with more or less of a task by sign."""
-    parts = parted(branch, number)
-    if parts is None:
-        return []
-    begun, inside, outside = parts
-    both = (inside, outside) if sign == -1 else (outside, inside)
-    places = replaced(tuple(range(len(plan))), number, len(plan))
-    other = branch_within(plan, places, table_beside(plan, branch.gone, number, sign))
-    for group in (*begun, *both):
-        other = other.grown(group)
-    return whole_branches(other)
-
-
-def triple_of(found, number, sign):
-    """Return the triple of the longer durations, the task and its lesser one, of durations and one behind them."""
-    durations, beside = found[:-1], found[-1]
-    if sign == -1:
-        return (durations, number, beside)
-    return (replaced(durations, number, beside), number, durations[number])
-
-
-def jump_beside(plan, branch, number, sign):
-    """Return a triple that makes later between a branch and those just beside it, None if there is none."""
-    for other in branches_beside(plan, branch, number, sign):
-        is_later = above(branch.last_chain(), other.last_chain(), len(plan) + 1, sign)
-        found = solution_with(other.table, is_later)
-        if found is not None:
-            return triple_of(found, number, sign)
-    return None
-
-
-def first_jump(plan, branches):
-    """Return a triple that makes later, None if there is none; branches are all whole ones of the plan."""
-    for branch in branches:
-        for number in range(len(plan)):
-            for sign in (-1, 1):
-                found = jump_beside(plan, branch, number, sign)
-                if found is not None:
-                    return found
-    return None
-
-
-def shorter_later(plan):
-    """Return durations, a task and less for it with which the whole ends later, None if there is no such triple."""
-    return first_jump(plan, course_branches(plan))
 
 
 def less_holds(plan, value):
@@ -113,15 +26,35 @@ def less_holds(plan, value):
     return is_below(whole_end(plan, durations), whole_end(plan, replaced(durations, number, less)))
 
 
+def triple_of(durations, number, other):
+    """Return the triple of the longer durations, the task and its lesser one, of durations and another one of it."""
+    if is_below(other, durations[number]):
+        return (durations, number, other)
+    return (replaced(durations, number, other), number, durations[number])
+
+
+def shorter_later(plan):
+    """Return durations, a task and less for it with which the whole ends later, None if there is no such triple."""
+    check_courses(plan)
+    jump = first_jump(plan)
+    if jump is None:
+        return None
+    durations, number, other = jump
+    # The step must be short enough: so it is halved until it is.
+    while not less_holds(plan, triple_of(durations, number, other)):
+        other = middle(durations[number], other)
+    return triple_of(durations, number, other)
+
+
 def is_steady(plan):
     """Return whether nothing shorter makes the whole end later."""
-    return shorter_later(plan) is None
+    check_courses(plan)
+    return first_jump(plan) is None
 
 
 def is_steady_with(plan, pair):
     """Return whether a plan with another pair is steady, however many courses it has then."""
-    other = plan.with_pair(pair[0], pair[1])
-    return first_jump(other, whole_branches(first_branch(other))) is None
+    return first_jump(plan.with_pair(pair[0], pair[1])) is None
 
 
 def fewest_pairs(plan, most):

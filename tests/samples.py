@@ -117,6 +117,9 @@ SIXTY = plan_of([(4, 4), (3, 6), (2, 4), (1, 4), (1, 1)], workers=3)
 SIXTY_ONE = plan_of([(3, 5), (3, 6), (3, 5), (3, 3), (1, 3)], workers=3)
 LOOSE = plan_of([(1, 9)] * 5, workers=3)
 LOOSE_8 = plan_of([(1, 9)] * 5, [(2, 3), (2, 4)], workers=3)
+# As many courses once more, and one more, both with just 8 pairs apart: to decide the first one took longest of all.
+WIDE = plan_of([(1, 6), (3, 6), (6, (27, 4)), (2, 40), (2, 40)], [(0, 3), (1, 4)], workers=3)
+WIDE_ONE = WIDE.with_task(2, ((), (6, 1), (7, 1)))
 # The plan of [10] in words, whose latest end is not met.
 NEAR = plan_of([(1, 3), (2, 2), (5, 5), (5, 5), (6, 6)], [(0, 2), (1, 3), (1, 4)], (0, 1, 3, 4, 2))
 
@@ -146,6 +149,24 @@ def jumpy_plans(seed, count):
         wide = chance.choice(((0, 0, 1, 2), (0, 1, 2), (1, 2, 3), (0, 2, 4)))
         lows = [chance.randint(1, 6) for _ in range(5)]
         plan = plan_of([(low, low + chance.choice(wide)) for low in lows], base.pairs(), base.order)
+        plans.append(renumbered(plan, chance.sample(range(5), 5)))
+    return plans
+
+
+def parting_plans(seed, count):
+    """Return plans in which two or more tasks wait for one of the first two, always the same for a seed."""
+    chance = random.Random(seed)
+    plans = []
+    for _ in range(count):
+        wide = chance.choice(((0, 0, 1, 2), (0, 1, 2), (1, 2, 3), (0, 2, 4)))
+        bottom = chance.choice((1, 1, 2, 3))
+        bounds = []
+        for _ in range(5):
+            low = chance.randint(1, 7)
+            bounds.append((fraction(low, bottom), fraction(low + chance.choice(wide), bottom)))
+        others = [pair for pair in ((1, 4), (1, 2), (2, 4), (3, 4)) if chance.random() < 0.3]
+        order = [0, 1, *chance.sample((2, 3, 4), 3)]
+        plan = plan_of(bounds, [(0, 2), (0, 3), *others], tuple(order))
         plans.append(renumbered(plan, chance.sample(range(5), 5)))
     return plans
 

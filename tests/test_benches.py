@@ -14,7 +14,8 @@ from lesslater.runs import durations_error, whole_end
 from lesslater.steady import is_steady
 from lesslater.walkers import Walker
 from tests.samples import (
-    LOOSE, NEAR, P, Q, SIXTY, SIXTY_ONE, T, any_values, jumpy_plans, no_integers, some_plans,
+    LOOSE, NEAR, P, Q, SIXTY, SIXTY_ONE, T, WIDE, WIDE_ONE, any_values, jumpy_plans, no_integers, parting_plans,
+    some_plans,
 )
 
 FAR = (100, 1)
@@ -341,8 +342,28 @@ class SteadyTest(BenchCase):
         bench.add_pair(0, 1)
         self.assertIs(bench.is_steady(), True)
         self.assert_stands(bench, P.with_pair(0, 1), FAR, 1, "sooner")
-        for plan in (NEAR, *jumpy_plans(105, 10)):
+        for plan in (NEAR, *jumpy_plans(105, 10), *parting_plans(106, 20)):
             self.assertIs(Bench(plan, FAR).is_steady(), is_steady(plan))
+
+    def test_a_plan_with_sixty_courses_and_others_beside_it(self):
+        bench = Bench(WIDE, (99, 1))
+        self.assertIs(bench.is_steady(), True)
+        self.assertEqual(self.assert_refused(TooMany, bench, lambda: bench.set_task(2, WIDE_ONE[2])).limit, 60)
+        self.assertIs(bench.is_steady(), True)
+        bench.set_workers(2)
+        self.assertIs(bench.is_steady(), True)
+        bench.add_pair(0, 2)
+        self.assertIs(bench.is_steady(), False)
+        self.assertIs(bench.tried(lambda held: (held.undo(), held.is_steady())[1]), True)
+        self.assertIs(bench.is_steady(), False)
+        bench.set_order((0, 1, 3, 4, 2))
+        self.assertIs(bench.is_steady(), is_steady(bench.plan))
+        bench.set_workers(3)
+        self.assertIs(bench.is_steady(), True)
+        for _ in range(4):
+            bench.undo()
+        self.assertIs(bench.is_steady(), True)
+        self.assert_stands(bench, WIDE, (99, 1), 0, "sooner")
 
 
 class Stopped(Exception):

@@ -4,12 +4,14 @@ import itertools
 import unittest
 from fractions import Fraction
 
-from lesslater.courses import chains, conditions, courses, is_beginning, next_groups, point, running
+from lesslater.courses import (
+    chains, check_courses, conditions, courses, is_beginning, most_courses, next_groups, point, running,
+)
 from lesslater.errors import TooMany
 from lesslater.runs import course_of, durations_error, moments, times
 from tests import reference
 from tests.samples import (
-    LOOSE, P, Q, SIXTY, SIXTY_ONE, T, grid, no_integers, plan_of, some_durations, some_plans,
+    LOOSE, LOOSE_8, P, Q, SIXTY, SIXTY_ONE, T, WIDE, WIDE_ONE, grid, no_integers, plan_of, some_durations, some_plans,
 )
 
 OF_BEGINNINGS = (running, next_groups, chains, conditions, point)
@@ -395,6 +397,34 @@ class CoursesTest(unittest.TestCase):
                     found += not groups
                     level.extend(beginning + (group,) for group in groups)
             self.assertEqual(found, told)
+
+    def test_no_plan_has_more_than_its_tasks_and_workers_allow(self):
+        for workers, told in ((1, [1, 1, 1, 1, 1]), (2, [1, 3, 7, 17, 41]), (3, [1, 3, 13, 49, 189])):
+            self.assertEqual([most_courses(many, workers) for many in (1, 2, 3, 4, 5)], told)
+        for plan in (P, Q, WIDE, *some_plans(31, 60)):
+            self.assertLessEqual(len(whole_ones(plan)), most_courses(len(plan), plan.workers))
+        # Without forerunners just as many are told: no worker is ever idle while tasks wait.
+        for workers in (1, 2, 3):
+            for many in (1, 2, 3, 4, 5):
+                plan = plan_of([(1, 9)] * many, workers=workers)
+                self.assertEqual(len(whole_ones(plan)), most_courses(many, workers))
+
+    def test_too_many_are_told_without_the_courses_too(self):
+        outcomes = {True: 0, False: 0}
+        for plan in (P, SIXTY, SIXTY_ONE, WIDE, WIDE_ONE, LOOSE, LOOSE_8, *some_plans(32, 80)):
+            told = None
+            try:
+                courses(plan)
+            except TooMany as error:
+                told = error.limit
+            outcomes[told is None] += 1
+            if told is None:
+                self.assertIsNone(check_courses(plan))
+            else:
+                with self.assertRaises(TooMany) as caught:
+                    check_courses(plan)
+                self.assertEqual(caught.exception.limit, told)
+        self.assertGreater(min(outcomes.values()), 3)
 
     def test_others_do_not_look_at_how_many_there_are(self):
         whole = ((0, 1), (2,), (3,), (4,))

@@ -5,7 +5,7 @@ import unittest
 from fractions import Fraction
 
 from lesslater.errors import BadFraction, PlanError
-from lesslater.fractions import added, fraction, is_below, is_fraction, least_of
+from lesslater.fractions import added, fraction, is_below, is_fraction, least_of, middle
 from tests.samples import FORTY, no_integers
 
 
@@ -177,6 +177,7 @@ class ArithmeticTest(unittest.TestCase):
             for other in self.PAIRS:
                 exact = Fraction(*one) + Fraction(*other)
                 self.assertEqual(added(one, other), (exact.numerator, exact.denominator))
+                self.assertEqual(middle(one, other), ((exact / 2).numerator, (exact / 2).denominator))
                 self.assertIs(is_below(one, other), Fraction(*one) < Fraction(*other))
 
     def test_the_least_one(self):

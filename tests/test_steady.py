@@ -10,8 +10,8 @@ from lesslater.runs import durations_error, whole_end
 from lesslater.solver import solution
 from lesslater.steady import fewest_pairs, is_steady, less_holds, shorter_later
 from tests.samples import (
-    LOOSE, LOOSE_8, NEAR, P, Q, SIXTY, SIXTY_ONE, T, any_values, between, grid, is_of_tuples, jumpy_plans, no_integers,
-    plan_of, renumbered, replaced, some_durations, some_plans, stretched,
+    LOOSE, LOOSE_8, NEAR, P, Q, SIXTY, SIXTY_ONE, T, WIDE, WIDE_ONE, any_values, between, grid, is_of_tuples,
+    jumpy_plans, no_integers, parting_plans, plan_of, renumbered, replaced, some_durations, some_plans, stretched,
 )
 
 LONG = ((3, 1), (2, 1), (2, 1), (2, 1), (5, 1))
@@ -93,7 +93,7 @@ class ExampleTest(unittest.TestCase):
         self.assertEqual((fewest_pairs(Q, 1), fewest_pairs(P, 0), fewest_pairs(P, 1)), ((), None, ((0, 1),)))
 
 
-class ShorterLaterTest(unittest.TestCase):
+class DecidedCase(unittest.TestCase):
     def assert_decided(self, plan, told):
         found = shorter_later(plan)
         self.assertIs(is_steady(plan), told)
@@ -107,6 +107,8 @@ class ShorterLaterTest(unittest.TestCase):
             self.assertIs(less_holds(plan, found), True)
             self.assertTrue(is_of_tuples(found))
 
+
+class ShorterLaterTest(DecidedCase):
     def test_both_outcomes(self):
         self.assert_decided(P, False)
         self.assert_decided(NEAR, False)
@@ -146,7 +148,7 @@ class ShorterLaterTest(unittest.TestCase):
 
     def test_against_all_pairs_of_courses(self):
         outcomes = {True: 0, False: 0}
-        for plan in (P, Q, NEAR, *some_plans(65, 20, most=4), *jumpy_plans(66, 60)):
+        for plan in (P, Q, NEAR, *some_plans(65, 20, most=4), *jumpy_plans(66, 60), *parting_plans(73, 80)):
             if len(courses(plan)) <= 14:
                 told = not some_pair_of_courses_jumps(plan)
                 outcomes[told] += 1
@@ -156,7 +158,7 @@ class ShorterLaterTest(unittest.TestCase):
 
     def test_nothing_drawn_is_shorter_and_later(self):
         outcomes = {True: 0, False: 0}
-        for plan in (P, Q, NEAR, *jumpy_plans(67, 60)):
+        for plan in (P, Q, NEAR, *jumpy_plans(67, 60), *parting_plans(74, 60)):
             told = any(is_later(plan, triple) for triple in drawn(plan, 2))
             outcomes[told] += 1
             if told:
@@ -183,6 +185,52 @@ class ShorterLaterTest(unittest.TestCase):
                 many += 1
                 self.assertTrue(any(len(group) > 1 for course in courses(plan) for group in course))
         self.assertGreater(many, 10)
+
+
+class WideTest(DecidedCase):
+    """A plan with as many courses as there may be, and plans beside it."""
+
+    def test_the_plan(self):
+        self.assertEqual(len(courses(WIDE)), 60)
+        self.assert_decided(WIDE, True)
+        for most in (0, 1):
+            self.assertEqual(fewest_pairs(WIDE, most), ())
+
+    def test_one_course_more(self):
+        self.assertEqual(len(WIDE_ONE.apart()), 8)
+        for call in (shorter_later, is_steady, lambda plan: fewest_pairs(plan, 0), lambda plan: fewest_pairs(plan, 1)):
+            with self.assertRaises(TooMany) as caught:
+                call(WIDE_ONE)
+            self.assertEqual(caught.exception.limit, 60)
+
+    def test_fewer_workers(self):
+        for workers in (1, 2):
+            self.assert_decided(WIDE.with_workers(workers), True)
+
+    def test_fewer_workers_and_a_pair(self):
+        two = WIDE.with_workers(2)
+        for order, pair in (
+            ((0, 1, 2, 3, 4), (0, 2)), ((0, 1, 2, 4, 3), (1, 2)), ((0, 1, 3, 4, 2), (0, 4)), ((0, 1, 3, 4, 2), (1, 3)),
+        ):
+            plan = two.with_order(order).with_pair(*pair)
+            self.assert_decided(plan, False)
+            self.assert_decided(plan.with_workers(3), True)
+            self.assertIsNone(fewest_pairs(plan, 0))
+            (found,) = fewest_pairs(plan, 1)
+            self.assert_decided(plan.with_pair(*found), True)
+
+    def test_all_lists_and_pairs(self):
+        # How many are not steady was found by comparing each course with all that begin beside it.
+        many = 0
+        for order in itertools.permutations(range(5)):
+            plan = WIDE.with_order(order).with_workers(2)
+            for pair in pairs_to_add(plan):
+                other = plan.with_pair(*pair)
+                found = shorter_later(other)
+                if found is not None:
+                    many += 1
+                    self.assertTrue(is_later(other, found))
+        self.assertEqual(many, 128)
 
 
 class LessHoldsTest(unittest.TestCase):
